@@ -1,0 +1,1 @@
+"""Delve: cellars of rooms, gates, keys, levers and water."""
