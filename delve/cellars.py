@@ -15,6 +15,16 @@ WHEELS = 6
 FIRST_BARS = 7
 FIRST_WATER = 8
 
+# Where each part stands in a way's tuple.
+WAY_A = 0
+WAY_B = 1
+WAY_GATE = 2
+WAY_BACK = 3
+
+# Where each part stands in a thing's, a lever's or a wheel's tuple.
+PAIR_ROOM = 0
+PAIR_NUMBER = 1
+
 MOST_ROOMS = 14
 MOST_WAYS = 20
 MOST_THINGS = 8
