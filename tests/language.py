@@ -21,6 +21,7 @@ OUT_WORDS = re.compile(
 WALKED = ("zip", "enumerate", "reversed", "range")
 WALKED_METHODS = ("items", "keys", "values")
 WALKERS = ("list", "tuple", "dict", "sorted", "sum", "any", "all", "enumerate", "zip", "min", "max")
+CHANGES = ("append", "clear", "extend", "insert", "pop", "remove", "reverse", "setdefault", "update", "add", "discard")
 KEYWORDS = {"sorted": ("key", "reverse"), "min": ("key", "default"), "max": ("key", "default"),
             "sum": ("start",), "enumerate": ("start",), "zip": ("strict",)}
 STATEMENTS = (ast.Assign, ast.AugAssign, ast.If, ast.While, ast.For, ast.Return, ast.Break, ast.Continue, ast.Pass,
@@ -213,4 +214,46 @@ def check_errors(node, parents):
                 yield "L19: an except"
 
 
-CHECKS = (check_kinds, check_values, check_defs, check_names, check_calls, check_errors)
+def walked_names(walked):
+    """The names that a loop walks, itself or through enumerate, zip, reversed, items."""
+    if isinstance(walked, ast.Name):
+        return [walked.id]
+    if not isinstance(walked, ast.Call):
+        return []
+    if isinstance(walked.func, ast.Attribute) and walked.func.attr in WALKED_METHODS:
+        return walked_names(walked.func.value)
+    if isinstance(walked.func, ast.Name) and walked.func.id in WALKED:
+        return [name for part in walked.args for name in walked_names(part)]
+    return []
+
+
+def changed_name(node):
+    if isinstance(node, ast.Call) and isinstance(node.func, ast.Attribute) and node.func.attr in CHANGES:
+        return getattr(node.func.value, "id", None)
+    if isinstance(node, ast.Subscript) and isinstance(node.ctx, ast.Store):
+        return getattr(node.value, "id", None)
+    if isinstance(node, ast.Name) and isinstance(node.ctx, ast.Store):
+        return node.id
+    return None
+
+
+def check_loops(node, parents):
+    if isinstance(node, ast.For):
+        names = walked_names(node.iter)
+        for part in [part for row in node.body for part in ast.walk(row)]:
+            if changed_name(part) in names:
+                yield f"L23: {changed_name(part)} is changed where it is walked"
+
+
+def check_two_forms(node, parents):
+    if isinstance(node, ast.Set) and not isinstance(parents[node], ast.Compare):
+        numbers = [part for part in node.elts if isinstance(part, ast.Constant) and isinstance(part.value, int)]
+        if len(numbers) > 2:
+            yield "L13: a set of numbers"
+    if isinstance(node, ast.Lambda):
+        others = [part for part in parents if isinstance(part, ast.Lambda) and part.lineno == node.lineno]
+        if any(part is not node and ast.dump(part.args) == ast.dump(node.args) for part in others):
+            yield "L13: two lambdas on one line"
+
+
+CHECKS = (check_kinds, check_values, check_defs, check_names, check_calls, check_errors, check_loops, check_two_forms)

@@ -58,15 +58,15 @@ def model_start(made):
     return (made[1], 0, 0, made[7], made[8])
 
 
-def model_come(made, begin=None, words=WORDS, most=MOST):
-    """The set of the stands that come by deeds of these words; None where they are more than most."""
+def model_come(made, begin=None, words=WORDS, most=MOST, without=()):
+    """The set of the stands that come by deeds of these words, but not by those without; None where more than most."""
     found = set()
     left = [model_start(made) if begin is None else begin]
     while left and len(found) <= most:
         stand = left.pop()
         if stand not in found:
             found.add(stand)
-            left += [other for deed, other in model_leads(made, stand) if deed[0] in words]
+            left += [other for deed, other in model_leads(made, stand) if deed[0] in words and deed not in without]
     return found if len(found) <= most else None
 
 
@@ -106,11 +106,105 @@ def model_depths(made):
     return sorted(model_distances([model_start(made)], model_links(made)).items())
 
 
-def model_nears(made):
-    stands = sorted(model_come(made))
+def model_nears(made, begin=None, most=MOST):
+    stands = sorted(model_come(made, begin, most=most))
     ends = [stand for stand in stands if stand[0] == made[2]]
-    told = model_distances(ends, [(other, one) for one, other in model_links(made)])
+    links = [(other, stand) for stand in stands for deed, other in model_leads(made, stand)]
+    told = model_distances(ends, links)
     return [(stand, told.get(stand)) for stand in stands]
+
+
+def model_is_stuck(made):
+    return any(near is None for stand, near in model_nears(made))
+
+
+def model_paper(made, begin=None, most=MOST):
+    """A paper for the stands that come from the begin, from none of which the end is shut."""
+    numbers = dict(model_nears(made, begin, most))
+    lines = []
+    for stand, number in numbers.items():
+        deeds = [deed for deed, other in model_leads(made, stand) if numbers[other] == number - 1]
+        lines.append((stand, deeds[-1] if deeds else None, number))
+    return lines
+
+
+def model_is_stand(made, thing):
+    if len(thing) != 5 or not all(0 <= part < top for part, top in zip(thing, (made[0], 1 << len(made[4])))):
+        return False
+    room, taken, opened, bars, water = thing
+    doors = [number for number, way in enumerate(made[3]) if way[2][0] == "door"]
+    if bars not in range(256) or water not in range(10) or opened < 0:
+        return False
+    if any(opened & 1 << number for number in range(200) if number not in doors):
+        return False
+    return all(model_held(made, thing, kind) >= 0 for kind in range(12))
+
+
+def model_holds(made, paper):
+    numbers = {stand: number for stand, deed, number in paper}
+    if model_start(made) not in numbers or sorted(numbers) != sorted(stand for stand, deed, number in paper):
+        return False
+    for stand, deed, number in paper:
+        if not model_is_stand(made, stand):
+            return False
+        after = dict(model_leads(made, stand))
+        if not set(after.values()) <= set(numbers):
+            return False
+        ends = number == 0 and stand[0] == made[2] and deed is None
+        falls = number > 0 and deed in after and numbers[after[deed]] < number
+        if not ends and not falls:
+            return False
+    return True
+
+
+def model_led(made, begin, way):
+    """The stands along a row of deeds, the begin first; None where one of the deeds can't be done."""
+    stands = [begin]
+    for deed in way:
+        after = dict(model_leads(made, stands[-1]))
+        if deed not in after:
+            return None
+        stands.append(after[deed])
+    return stands
+
+
+def model_shows_stuck(made, way, stands):
+    led = model_led(made, model_start(made), way)
+    if led is None or led[-1] not in stands:
+        return False
+    if not all(model_is_stand(made, stand) and stand[0] != made[2] for stand in stands):
+        return False
+    return all(other in stands for stand in stands for deed, other in model_leads(made, stand))
+
+
+def model_deeds(made):
+    """All deeds of the cellar's own numbers, in order."""
+    sizes = {"go": len(made[3]), "pull": len(made[5]), "take": len(made[4]), "turn": len(made[6]),
+             "unlock": len(made[3])}
+    return [(word, number) for word in WORDS for number in range(sizes[word])]
+
+
+def model_must(made, one, other, begin):
+    stands = model_come(made, begin, without=(one,))
+    if other is None:
+        return all(stand[0] != made[2] for stand in stands)
+    return all(other not in dict(model_leads(made, stand)) for stand in stands)
+
+
+def model_needed(made, begin):
+    """The needed deeds in order; None where the end is shut from the begin."""
+    if all(stand[0] != made[2] for stand in model_come(made, begin)):
+        return None
+    return [deed for deed in model_deeds(made) if deed[0] != "go" and model_must(made, deed, None, begin)]
+
+
+def model_word(made, begin):
+    needed = model_needed(made, begin)
+    for deed in needed:
+        others = [other for other in needed if other != deed]
+        if any(deed in dict(model_leads(made, stand)) for stand in model_come(made, begin, without=others)):
+            return deed
+    return None
 
 
 def line(rooms, back=True):
@@ -214,6 +308,32 @@ def some_cellar(seed):
         [(source.randrange(rooms), source.randrange(5)) for number in range(source.randrange(3))],
         source.randrange(4), source.randrange(5),
     )
+
+
+def needy_cellar(seed):
+    """Rooms in a row; what each gate asks for lies most often ahead of it."""
+    source = random.Random(seed)
+    rooms = source.randrange(3, 6)
+    ways, things, levers, wheels = [], [], [], []
+    for room in range(rooms - 1):
+        word = source.choice(("plain", "door", "need", "bar", "float"))
+        place = source.randrange(room + 1) if source.random() < 0.9 else source.randrange(rooms)
+        numbers = {"plain": (), "float": (6,)}.get(word, (room,))
+        if word in ("door", "need"):
+            things += [(place, room)] * source.choice((1, 1, 1, 2))
+        if word == "bar":
+            levers.append((place, 1 << room))
+        if word == "float":
+            wheels.append((place, source.randrange(6, 10)))
+        ways.append((room, room + 1, (word,) + numbers, source.random() < 0.8))
+    source.shuffle(ways)
+    source.shuffle(things)
+    return cellar(rooms, 0, rooms - 1, ways, things, levers, wheels)
+
+
+def needy_cellars(many=60):
+    grown = [needy_cellar(seed) for seed in range(many)]
+    return [made for made in grown if model_come(made) is not None]
 
 
 def hand_made():

@@ -1,6 +1,14 @@
 import unittest
 
 from delve import errors
+from delve.ahead import fewest, must, needed, word
+from delve.cellars import cellar
+from delve.deals import count, dealing_of, dealt, good
+from delve.deals import number_of as dealing_number
+from delve.papers import judged
+from delve.plans import number_of as plan_number
+from delve.plans import plan_of
+from tests.model import far_too_wide, line, never_to_the_end
 
 NAMES = ("NoCellar", "NoDeed", "Wide", "Shut", "NoDeal", "TooMany", "NoPlan", "NoText", "NoRow")
 STAND = (1, 2, 3, 4, 5)
@@ -55,6 +63,40 @@ class Errors(unittest.TestCase):
     def test_each_has_words(self):
         for name in NAMES:
             self.assertNotEqual(str(made(name)), "", name)
+
+
+# What is told by name is the refusal, then what is asked and handed in.
+RAISED = (
+    ("NoDeal", count, [12], 3),
+    ("NoDeal", count, [1, 2], 1),
+    ("NoDeal", dealing_number, (12,)),
+    ("NoDeal", dealing_of, [1], 2, 2),
+    ("NoDeal", dealt, line(3), [0, 0], (1, 2)),
+    ("NoDeal", good, line(3), [1], [3]),
+    ("TooMany", good, line(14), [1, 2], list(range(14))),
+    ("Wide", good, far_too_wide(), [1], [0]),
+    ("Wide", judged, far_too_wide()),
+    ("Wide", must, far_too_wide(), ("go", 0), None),
+    ("Wide", needed, far_too_wide()),
+    ("Wide", fewest, far_too_wide()),
+    ("Wide", word, far_too_wide()),
+    ("Shut", needed, never_to_the_end()),
+    ("Shut", fewest, never_to_the_end()),
+    ("Shut", word, cellar(2, 0, 1, [])),
+    ("NoPlan", plan_of, 7, 1),
+    ("NoPlan", plan_number, ("walk", ("end",)), 0),
+)
+
+
+class Raised(unittest.TestCase):
+    def test_each_is_taken_by_its_own_name_and_no_other_refusals(self):
+        for row in RAISED:
+            for base in (class_of(row[0]), errors.DelveError, ValueError):
+                with self.assertRaises(base) as caught:
+                    row[1](*row[2:])
+            taken = [name for name in NAMES if isinstance(caught.exception, class_of(name))]
+            self.assertEqual(taken, [row[0]], row)
+            self.assertNotEqual(str(caught.exception), "")
 
 
 if __name__ == "__main__":

@@ -103,6 +103,12 @@ BAD_SOURCES = (
     "def f():\n    return '%'\n", "def _f():\n    return 1\n", "def f(a):\n\treturn a\n", "x = 1" + " " * 120 + "\n",
     "def f():\n    'words'\n", "def f(a):\n    return f'{a.b}'\n", "def f(a: int):\n    return a\n",
     "def f(a):\n    return 2 ** a\n", "def f(a):\n    for b in a:\n        pass\n    else:\n        pass\n",
+    "def f(a):\n    for b in a:\n        a.append(b)\n",
+    "def f(a):\n    for b, c in enumerate(a):\n        a[b] = c + 1\n",
+    "def f(a):\n    for b, c in a.items():\n        a.pop(b)\n", "def f(a):\n    for b in a:\n        a = [b]\n",
+    "def f(a):\n    for b, c in zip(a, a):\n        a[b] += c\n",
+    "def f(a):\n    b = len({1, 2, 3})\n    return a + b\n",
+    "def f(a):\n    return (lambda b: b + a, lambda b: b - a)\n",
     "def f(a):\n    try:\n        a()\n    except Exception:\n        pass\n", "@f\ndef g():\n    return 1\n",
 )
 
