@@ -51,6 +51,21 @@ def cellar(rooms, first, last, ways, things=None, levers=None, wheels=None, bars
     )
 
 
+# For those that have a cellar's parts together, most often a cellar's with one of them changed.
+def made_of(parts):
+    return cellar(
+        parts[ROOMS],
+        parts[FIRST],
+        parts[LAST],
+        parts[WAYS],
+        parts[THINGS],
+        parts[LEVERS],
+        parts[WHEELS],
+        parts[FIRST_BARS],
+        parts[FIRST_WATER],
+    )
+
+
 def check_number(name, number, least, most):
     if not within(number, least, most):
         raise NoCellar(f"{name}: {number!r} is not from {least} to {most}")

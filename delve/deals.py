@@ -5,7 +5,7 @@ from delve.cellars import ROOMS, THINGS
 from delve.errors import NoDeal, TooMany
 from delve.stands import start
 from delve.walks import walk_from
-from delve.whole import LAST_KIND, within
+from delve.whole import LAST_KIND, changed, within
 
 # As many as a cellar has rooms and things at most.
 MOST_PLACES = 14
@@ -55,7 +55,7 @@ def dealt(cellar, places, dealing):
     if len(dealing) != len(places):
         raise NoDeal("the dealing has more or fewer places than are told")
     things = tuple([(room, kind) for room, kind in zip(places, dealing) if kind is not None])
-    return cellar[:THINGS] + (things,) + cellar[THINGS + 1:]
+    return changed(cellar, THINGS, things)
 
 
 def good(cellar, kinds, places):

@@ -4,7 +4,9 @@ from delve.cellars import LAST, LEVERS, PAIR_NUMBER, PAIR_ROOM, THINGS, WAY_A, W
 from delve.errors import NoDeed
 from delve.gates import gate_of
 from delve.stands import BARS, OPENED, ROOM, TAKEN, WATER, held
-from delve.whole import has_bit, within
+from delve.whole import changed, has_bit, within
+
+DEED_WORDS = ("go", "pull", "take", "turn", "unlock")
 
 
 class Deed:
@@ -97,10 +99,6 @@ class Unlock(Deed):
 
 def can_enter(way, room):
     return room == way[WAY_A] or (room == way[WAY_B] and way[WAY_BACK])
-
-
-def changed(stand, part, number):
-    return stand[:part] + (number,) + stand[part + 1:]
 
 
 def deed_of(deed):

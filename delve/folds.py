@@ -1,9 +1,10 @@
 """Folds: the stands between which one can go round freely, taken as one."""
 
 from delve.cellars import ROOMS
-from delve.deeds import changed, leads, stands_by_go
+from delve.deeds import leads, stands_by_go
 from delve.stands import ROOM
 from delve.walks import come, counts_from, turned_links
+from delve.whole import changed
 
 
 def round_of(cellar, stand):

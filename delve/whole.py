@@ -1,4 +1,4 @@
-"""Whole numbers: the ends of their ranges, and their bits."""
+"""Whole numbers: the ends of their ranges, and their bits; and tuples with one part changed."""
 
 LAST_KIND = 11
 LAST_BAR = 7
@@ -15,3 +15,7 @@ def within(number, least, most):
 
 def has_bit(bits, place):
     return (bits >> place) & 1 == 1
+
+
+def changed(parts, place, part):
+    return parts[:place] + (part,) + parts[place + 1:]

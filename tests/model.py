@@ -236,11 +236,33 @@ def just_wide():
     return cellar(**{**wide_parts(), "first": 8})
 
 
+def gate_to_the_wide(gate=("bar", 0)):
+    """One stand comes, but 301 where the gate of way 8 lets at first."""
+    parts = wide_parts()
+    parts["ways"][8] = (8, 0, gate, False)
+    return cellar(**{**parts, "first": 8})
+
+
+def made_anew(made, way, gate):
+    """The cellar with another gate, made of its parts."""
+    ways = [row[:2] + (gate,) + row[3:] if number == way else row for number, row in enumerate(made[3])]
+    return cellar(made[0], made[1], made[2], ways, list(made[4]), list(made[5]), list(made[6]), made[7], made[8])
+
+
 def far_too_wide():
     ways = [(room, (room + 1) % 13, ("plain",), True) for room in range(13)] + [(0, 13, ("plain",), True)]
     things = [(room, room) for room in range(8)]
     levers = [(room, 1 << room) for room in range(4)]
     return cellar(14, 0, 13, ways, things, levers, [(room, room + 1) for room in range(4)])
+
+
+def full_cellar():
+    """As many of all as may be, with the greatest numbers; far too wide."""
+    gates = [("plain",), ("door", 11), ("need", 11), ("bar", 7), ("wade", 9, 11), ("float", 9), ("wade", 0, 0)]
+    ways = [(w % 14, (w + 1 + w // 14) % 14, gates[w % 7], w % 3 != 0) for w in range(20)]
+    things = [(13, 11 - t) for t in range(7)] + [(0, 0)]
+    levers = [(13, 255), (0, 1), (12, 128), (7, 37)]
+    return cellar(14, 13, 0, ways, things, levers, [(13, 9), (0, 0), (13, 5), (10, 4)], 255, 9)
 
 
 def all_sorts():

@@ -3,42 +3,12 @@ import unittest
 
 from delve.errors import NoPlan
 from delve.plans import many, number_of, plan_depth, plan_of
+from tests.growth import END, ONE, TWO, all_plans, model_depth, some_plan, tower
 
-END = ("end",)
-ONE = ("walk", "drop", "spare")
-TWO = ("lock", "door", "bar")
 COUNTS = (
     1, 7, 169, 86191, 22286924017, 1490120946485455020919,
     6661381305464124918785090511089856547876441,
 )
-
-
-def all_plans(depth):
-    if depth == 0:
-        return [END]
-    lesser = all_plans(depth - 1)
-    ones = [(word, part) for word in ONE for part in lesser]
-    return [END] + ones + [(word, side, part) for word in TWO for side in lesser for part in lesser]
-
-
-def some_plan(source, depth):
-    """A plan of at most this depth, most often of just this one."""
-    if depth == 0 or source.random() < 0.1:
-        return END
-    parts = [some_plan(source, depth - 1), some_plan(source, source.randrange(depth))]
-    word = source.choice(ONE + TWO)
-    if word in ONE:
-        return (word, parts[0])
-    source.shuffle(parts)
-    return (word,) + tuple(parts)
-
-
-def model_depth(plan):
-    """By how many brackets are open at once."""
-    depths = [0]
-    for sign in repr(plan):
-        depths.append(depths[-1] + {"(": 1, ")": -1}.get(sign, 0))
-    return max(depths) - 1
 
 
 def all_kinds(thing):
@@ -46,17 +16,6 @@ def all_kinds(thing):
     if isinstance(thing, tuple):
         return {tuple}.union(*[all_kinds(part) for part in thing])
     return {type(thing)}
-
-
-def tower(word, depth, left=True):
-    """A plan that is deep by one word, on its left side or on its right."""
-    plan = END
-    for step in range(depth):
-        if word in ONE:
-            plan = (word, plan)
-        else:
-            plan = (word, plan, END) if left else (word, END, plan)
-    return plan
 
 
 class PlanDepth(unittest.TestCase):
